@@ -63,10 +63,7 @@ func TestBytes(t *testing.T) { // P1.2
 }
 
 func TestBytesRefused(t *testing.T) { // P1.2
-	rows := []struct {
-		b string
-		e api.Errno
-	}{
+	refused(t, "TakeBytes", []refusal{
 		{"", api.ErrShort},
 		{"f7", api.ErrShort},
 		{"0000000000000000", api.ErrShort},
@@ -84,12 +81,7 @@ func TestBytesRefused(t *testing.T) { // P1.2
 		{"6161616161616161ff 6162000000000000f8", api.ErrForm},
 		{"6161616161616161ff 6100000000000000f6", api.ErrForm},
 		{"6161616161616161f6 61", api.ErrForm},
-	}
-	for _, r := range rows {
-		if got, rest, e := TakeBytes(raw(t, r.b)); got != nil || rest != nil || e != r.e {
-			t.Errorf("TakeBytes(%s): %x, %x, error %d; want error %d", r.b, got, rest, e, r.e)
-		}
-	}
+	})
 	for ninth := range 247 {
 		if _, _, e := TakeBytes(append(make([]byte, 8), byte(ninth))); e != api.ErrForm {
 			t.Errorf("TakeBytes with the ninth byte %d: error %d; want ErrForm", ninth, e)
@@ -111,10 +103,7 @@ func TestKey(t *testing.T) { // P1.3
 			t.Errorf("TakeKey of Key(%x, %d): %x, %d, error %d", key, n, got, ts, e)
 		}
 	}
-	rows := []struct {
-		b string
-		e api.Errno
-	}{
+	refused(t, "TakeKey", []refusal{
 		{"", api.ErrShort},
 		{"6100000000000000f8", api.ErrShort},
 		{"6100000000000000f8 fffffffffffffe", api.ErrShort},
@@ -123,12 +112,7 @@ func TestKey(t *testing.T) { // P1.3
 		{"6161616161616161ff fffffffffffffffe", api.ErrShort},
 		{"6100000000000000f8 fffffffffffffffe 00", api.ErrForm},
 		{"6100000000000000f8 fffffffffffffffe fffffffffffffffe", api.ErrForm},
-	}
-	for _, r := range rows {
-		if key, ts, e := TakeKey(raw(t, r.b)); key != nil || ts != 0 || e != r.e {
-			t.Errorf("TakeKey(%s): %x, %d, error %d; want error %d", r.b, key, ts, e, r.e)
-		}
-	}
+	})
 }
 
 func TestVarint(t *testing.T) { // P1.4
@@ -151,10 +135,7 @@ func TestVarint(t *testing.T) { // P1.4
 
 func TestVarintRefused(t *testing.T) { // P1.4
 	nine := "80 80 80 80 80 80 80 80 80 "
-	rows := []struct {
-		b string
-		e api.Errno
-	}{
+	refused(t, "TakeVarint", []refusal{
 		{"", api.ErrShort},
 		{"80", api.ErrShort},
 		{"ffffff", api.ErrShort},
@@ -171,12 +152,7 @@ func TestVarintRefused(t *testing.T) { // P1.4
 		{"ac8200", api.ErrForm},
 		{"80 80 80 80 80 80 80 80 00", api.ErrForm},
 		{"ffffffffffffffffff 02", api.ErrForm},
-	}
-	for _, r := range rows {
-		if n, rest, e := TakeVarint(raw(t, r.b)); n != 0 || rest != nil || e != r.e {
-			t.Errorf("TakeVarint(%s): %d, %x, error %d; want error %d", r.b, n, rest, e, r.e)
-		}
-	}
+	})
 	if n, rest, e := TakeVarint(raw(t, nine+"01 80")); n != 1<<63 || told(rest) != "80" || e != api.OK {
 		t.Errorf("TakeVarint of 2^63 and 80: %d, %x, error %d", n, rest, e)
 	}
@@ -211,10 +187,7 @@ func TestFrame(t *testing.T) { // P1.6
 }
 
 func TestFrameRefused(t *testing.T) { // P1.6
-	rows := []struct {
-		b string
-		e api.Errno
-	}{
+	refused(t, "TakeFrame", []refusal{
 		{"", api.ErrShort},
 		{"80", api.ErrShort},
 		{"8000", api.ErrForm},
@@ -234,12 +207,7 @@ func TestFrameRefused(t *testing.T) { // P1.6
 		{"01 43beb7e8 61", api.ErrSum},
 		{"00 00000001", api.ErrSum},
 		{"00 e8b7be43 61", api.ErrSum},
-	}
-	for _, r := range rows {
-		if got, rest, e := TakeFrame(raw(t, r.b)); got != nil || rest != nil || e != r.e {
-			t.Errorf("TakeFrame(%s): %x, %x, error %d; want error %d", r.b, got, rest, e, r.e)
-		}
-	}
+	})
 }
 
 func TestRow(t *testing.T) { // P1.7
@@ -275,10 +243,7 @@ func TestRow(t *testing.T) { // P1.7
 }
 
 func TestRowRefused(t *testing.T) { // P1.7
-	rows := []struct {
-		b string
-		e api.Errno
-	}{
+	refused(t, "TakeRow", []refusal{
 		{"", api.ErrShort},
 		{"80", api.ErrShort},
 		{"8000", api.ErrForm},
@@ -300,10 +265,5 @@ func TestRowRefused(t *testing.T) { // P1.7
 		{"00 00", api.ErrForm},
 		{"01 00 00", api.ErrForm},
 		{"02 0161 00 61", api.ErrForm},
-	}
-	for _, r := range rows {
-		if got, e := TakeRow(raw(t, r.b)); got != nil || e != r.e {
-			t.Errorf("TakeRow(%s): %x, error %d; want error %d", r.b, got, e, r.e)
-		}
-	}
+	})
 }

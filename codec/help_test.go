@@ -113,3 +113,26 @@ func forms() [][]byte {
 	}
 	return l
 }
+
+// refusal is bytes that a Take refuses, and the error that the chapter names first.
+type refusal struct {
+	b string
+	e api.Errno
+}
+
+// refused: the Take of that name answers the errors, and nothing beside them.
+func refused(t *testing.T, name string, rows []refusal) {
+	t.Helper()
+	for _, c := range takes() {
+		if c.name != name {
+			continue
+		}
+		for _, r := range rows {
+			if _, _, zero, e := c.take(raw(t, r.b)); e != r.e || !zero {
+				t.Errorf("%s(%s): error %d, nothing beside it: %t; want error %d", name, r.b, e, zero, r.e)
+			}
+		}
+		return
+	}
+	t.Fatalf("there is no %s", name)
+}
