@@ -4,6 +4,7 @@ import (
 	"bytes"
 
 	"regatta/api"
+	"regatta/row"
 )
 
 // whole is a state as plain data.
@@ -18,16 +19,15 @@ type whole struct {
 // Export: bytes that say all of it.
 func (s *State) Export() []byte {
 	x := whole{s.applied, s.frozen, s.held, s.swallowed, s.places, s.region, s.Image()}
-	return written([]whole{x}, (*row).whole)
+	return row.Write(x, wholeParts)
 }
 
 // Import: the state whose Export b is.
 func Import(b []byte) (*State, api.Errno) {
-	l, ok := taken(b, (*row).whole)
-	if !ok || len(l) != 1 {
+	x, ok := row.Read(b, wholeParts)
+	if !ok {
 		return nil, api.ErrForm
 	}
-	x := l[0]
 	s, e := New(x.region, x.image)
 	if e != api.OK {
 		return nil, api.ErrForm
@@ -68,13 +68,13 @@ func rises(l []uint64) bool {
 }
 
 // EncodeCmd: bytes that say all of a command, whatever its kind.
-func EncodeCmd(c api.Cmd) []byte { return written([]api.Cmd{c}, (*row).cmd) }
+func EncodeCmd(c api.Cmd) []byte { return row.Write(c, cmdParts) }
 
 // DecodeCmd: the command whose EncodeCmd b is.
 func DecodeCmd(b []byte) (api.Cmd, api.Errno) {
-	l, ok := taken(b, (*row).cmd)
-	if !ok || len(l) != 1 {
+	c, ok := row.Read(b, cmdParts)
+	if !ok {
 		return api.Cmd{}, api.ErrForm
 	}
-	return l[0], api.OK
+	return c, api.OK
 }

@@ -13,6 +13,7 @@ import (
 	"regatta/codec"
 	"regatta/mvcc"
 	"regatta/region"
+	"regatta/row"
 )
 
 // deep is the same in new memory; it is a value that can be set.
@@ -138,6 +139,12 @@ func wantRefused(t *testing.T, what string, b []byte) {
 	}
 }
 
+// twice is a row with all fields of this one, and all of them again.
+func twice(b []byte) []byte {
+	fields, _ := codec.TakeRow(b)
+	return codec.Row(append(fields, fields...)...)
+}
+
 func TestBytesRefused(t *testing.T) { // P13.5: ErrForm, and nothing beside it
 	s := busy(t)
 	for _, b := range [][]byte{s.Export(), EncodeCmd(full()), EncodeCmd(api.Cmd{}), fresh(t, three).Export()} {
@@ -163,44 +170,8 @@ func TestBytesRefused(t *testing.T) { // P13.5: ErrForm, and nothing beside it
 	if _, e := Import(EncodeCmd(full())); e != api.ErrForm {
 		t.Errorf("a command is read as a state")
 	}
-	wantRefused(t, "two commands", written([]api.Cmd{full(), full()}, (*row).cmd))
-	wantRefused(t, "two states", written([]whole{wholeOf(s), wholeOf(s)}, (*row).whole))
-}
-
-func TestCmdBytesHaveOneForm(t *testing.T) { // P13.5, R7: fields that are not written so
-	var b []byte
-	for i, r := range []struct {
-		is     bool
-		fields []string
-	}{
-		{true, []string{"\x01", "\x05", "\x01"}}, {true, []string{"\x00", "\x00", "\x00"}}, {true, []string{"\x80\x01", "\xff\xff\xff\xff\xff\xff\xff\xff\xff\x01", "\x00"}}, {true, []string{"\x01", "\x05", "\x01", "\x01", "\x05", "\x00"}}, {true, nil},
-		{false, []string{"", "\x05", "\x01"}}, {false, []string{"\x01", "", "\x01"}}, {false, []string{"\x01", "\x05", ""}}, {false, []string{"\x81\x00", "\x05", "\x01"}}, {false, []string{"\x01", "\x85\x00", "\x01"}},
-		{false, []string{"\x01", "\x05", "\x81\x00"}}, {false, []string{"\x01\x00", "\x05", "\x01"}}, {false, []string{"\x01", "\x05\x05", "\x01"}}, {false, []string{"\x01", "\x05", "\x01\x01"}}, {false, []string{"\x80", "\x05", "\x01"}},
-		{false, []string{"\x01", "\x05", "\x02"}}, {false, []string{"\x01", "\x05", "\xff\xff\xff\xff\xff\xff\xff\xff\xff\x01"}}, {false, []string{"\x01", "\x05"}}, {false, []string{"\x01", "\x05", "\x01", "\x01"}}, {false, []string{"\x01", "\x05", "\x01", "\x01", "\x05"}},
-		{false, []string{"\xff\xff\xff\xff\xff\xff\xff\xff\xff\x02", "\x05", "\x01"}},
-	} {
-		var fields [][]byte
-		for _, f := range r.fields {
-			fields = append(fields, []byte(f))
-		}
-		b = codec.Row(fields...)
-		l, ok := taken(b, (*row).peer)
-		if ok != r.is || !ok && l != nil || ok && !bytes.Equal(written(l, (*row).peer), b) {
-			t.Errorf("peers of %d, %q: %v, %t", i, r.fields, l, ok)
-		}
-	}
-}
-
-func TestBytesThatEndEarly(t *testing.T) { // P13.5, R7: a field that has no byte stands there, too
-	var fields [][]byte
-	for n := range 13 {
-		b := codec.Row(fields...)
-		l, ok := taken(b, (*row).write)
-		if ok != (n%4 == 0) || ok && (len(l) != n/4 || !bytes.Equal(written(l, (*row).write), b)) {
-			t.Errorf("writes of %d fields: %v, %t", n, l, ok)
-		}
-		fields = append(fields, [][]byte{{1}, {2}, {3}, nil}[n%4])
-	}
+	wantRefused(t, "two commands", twice(EncodeCmd(full())))
+	wantRefused(t, "two states", twice(s.Export()))
 }
 
 func wholeOf(s *State) whole {
@@ -225,7 +196,7 @@ func busy(t *testing.T) *State {
 func TestStateBytes(t *testing.T) { // P13.5: all of it; the same have the same bytes, others have others
 	seen := map[string]int{}
 	look := func(what int, x whole) {
-		b := written([]whole{x}, (*row).whole)
+		b := row.Write(x, wholeParts)
 		s, e := Import(b)
 		if e != api.OK || !bytes.Equal(s.Export(), b) || fmt.Sprint(wholeOf(s)) != fmt.Sprint(x) {
 			t.Errorf("state %d: error %d of %v", what, e, x)
@@ -337,7 +308,7 @@ func TestImportRefused(t *testing.T) { // P13.5: what is no state, though it is 
 	} {
 		x := wholeOf(busy(t))
 		turn(&x)
-		if s, e := Import(written([]whole{x}, (*row).whole)); s != nil || e != api.ErrForm {
+		if s, e := Import(row.Write(x, wholeParts)); s != nil || e != api.ErrForm {
 			t.Errorf("state %d: error %d of %v", i, e, x)
 		}
 	}
