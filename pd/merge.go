@@ -1,6 +1,9 @@
 package pd
 
 import (
+	"maps"
+	"slices"
+
 	"regatta/api"
 	"regatta/region"
 )
@@ -66,4 +69,40 @@ func (p *Driver) Merge(id uint64) (api.Region, api.Region, int) {
 		return api.Region{}, api.Region{}, api.MergeNone
 	}
 	return fresh(m.source), fresh(m.target), m.status
+}
+
+// Open: the numbers of the merges that are open, rising.
+func (p *Driver) Open() []uint64 {
+	var l []uint64
+	for _, id := range slices.Sorted(maps.Keys(p.merges)) {
+		if p.merges[id].status == api.MergeOpen {
+			l = append(l, id)
+		}
+	}
+	return l
+}
+
+// Swallowed: has the region come into another one? Of a merge that is decided the target is held till the source is
+// in it: so it was, if the target was seen at a later Version than the one with which the merge was opened.
+func (p *Driver) Swallowed(id uint64) bool {
+	for _, m := range p.merges {
+		if m.source.ID == id && m.status == api.MergeCommit && p.seenBehind(m.target) {
+			return true
+		}
+	}
+	return false
+}
+
+// seenBehind: was the region told, or a part of a merge, at a later Version than this one?
+func (p *Driver) seenBehind(r api.Region) bool {
+	later := func(o api.Region) bool { return o.ID == r.ID && o.Epoch.Version > r.Epoch.Version }
+	if slices.ContainsFunc(p.regions, later) {
+		return true
+	}
+	for _, m := range p.merges {
+		if later(m.source) || later(m.target) {
+			return true
+		}
+	}
+	return false
 }

@@ -134,3 +134,55 @@ func TestMergesAndRegionsApart(t *testing.T) { // P16.1: what is known of region
 	wantRegions(t, p, "7 m - 0/9")
 	wantMerge(t, p, 1, api.MergeCommit, "7 m - 1/2", "1 - m 1/2")
 }
+
+func TestOpenMerges(t *testing.T) {
+	p := New(1)
+	want(t, "Open of none", len(p.Open()), 0)
+	script(t, p, `
+		merge 30: 7 m - 1/2 into 1 - m 1/2 -> ok open
+		merge 4: 9 m - 1/2 into 8 - m 1/2 -> ok open
+		merge top: 11 m - 1/2 into 10 - m 1/2 -> ok open
+		merge 5: 13 m - 1/2 into 12 - m 1/2 -> ok open
+		decide 5 back -> ok back`)
+	want(t, "Open", fmt.Sprint(p.Open()), "[4 30 18446744073709551615]")
+	script(t, p, "decide 4 commit -> ok commit\ndecide top back -> ok back")
+	want(t, "Open", fmt.Sprint(p.Open()), "[30]")
+	want(t, "Open of a copy", fmt.Sprint(copyOf(t, p).Open()), "[30]")
+}
+
+func TestSwallowed(t *testing.T) { // a source is in its target when that was seen at a later Version
+	p := New(1)
+	wantSwallowed := func(ids ...uint64) {
+		t.Helper()
+		for _, d := range []*Driver{p, copyOf(t, p)} {
+			var got []uint64
+			for id := range uint64(20) {
+				if d.Swallowed(id) {
+					got = append(got, id)
+				}
+			}
+			want(t, "Swallowed", fmt.Sprint(got), fmt.Sprint(ids))
+		}
+	}
+	script(t, p, "region 1 - m 1/2 -> ok\nregion 7 m - 1/2 -> ok\nmerge 2: 7 m - 1/2 into 1 - m 1/2 -> ok open")
+	wantSwallowed()
+	script(t, p, "decide 2 commit -> ok commit")
+	wantSwallowed()
+	script(t, p, "region 1 - m 5/2 -> ok") // other members say nothing
+	wantSwallowed()
+	script(t, p, "region 1 - - 5/3 -> ok")
+	wantSwallowed(7)
+	// One that was given up is not, whatever comes of the target.
+	script(t, p, "region 1 - m 5/4 -> ok\nregion 9 m - 5/4 -> ok\nmerge 3: 9 m - 5/4 into 1 - m 5/4 -> ok open\ndecide 3 back -> ok back\nregion 1 - k 5/5 -> ok")
+	wantSwallowed(7)
+	// The target may be known no more, as it is in another one, or be a later merge's target that is not told yet.
+	script(t, p, "merge 4: 12 c d 1/1 into 11 d e 1/1 -> ok open\ndecide 4 commit -> ok commit")
+	wantSwallowed(7)
+	script(t, p, "merge 5: 11 c e 1/2 into 14 e f 1/1 -> ok open")
+	wantSwallowed(7, 12)
+	script(t, p, "decide 5 commit -> ok commit\nmerge 6: 15 f g 1/1 into 14 c f 1/3 -> ok open")
+	wantSwallowed(7, 11, 12)
+	// The same Version says nothing.
+	script(t, p, "merge 7: 17 x y 1/4 into 16 w x 1/6 -> ok open\ndecide 7 commit -> ok commit\nmerge 8: 16 w x 3/6 into 18 v w 1/1 -> ok open")
+	wantSwallowed(7, 11, 12)
+}

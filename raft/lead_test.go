@@ -297,3 +297,28 @@ func TestHandWhileJoint(t *testing.T) { // P8.8, P8.10: it proposes nothing more
 	r = ticks(n, 10)
 	wantText(t, "when it hands over no more, the joint one is left", textEntries(r.Entries), "4:2(1 2 4)")
 }
+
+func TestMatch(t *testing.T) {
+	wantMatch := func(n *Node, is ...uint64) {
+		t.Helper()
+		for i, index := range is {
+			if m := n.Match(uint64(i) + 1); m != index {
+				t.Errorf("Match(%d): %d; want %d", i+1, m, index)
+			}
+		}
+	}
+	wantMatch(open(t, 1, begin()), 0, 0, 0, 0) // who does not lead knows nothing
+	n := leading(t, begin())
+	wantMatch(n, 0, 0, 0, 0)
+	n.Propose([]byte("x"))
+	step(t, n, got(n, 2, 3), got(n, 3, 2))
+	wantMatch(n, 0, 3, 2, 0)
+	step(t, n, got(n, 2, 2)) // late
+	wantMatch(n, 0, 3, 2, 0)
+	n.Change(changes("-3"))
+	step(t, n, got(n, 2, 4), got(n, 3, 4))
+	step(t, n, got(n, 2, 5))
+	wantMatch(n, 0, 5, 0, 0)
+	step(t, n, api.Message{Kind: api.MsgBeat, From: 2, To: 1, Term: 9})
+	wantMatch(n, 0, 0, 0, 0)
+}

@@ -70,6 +70,15 @@ func (n *Node) onBeatReply(m api.Message) {
 	n.confirm(n.group().quorum)
 }
 
+// Match: up to here the member has said to have the log; 0, if this peer does not lead, or that is none of its members.
+func (n *Node) Match(peer uint64) uint64 {
+	m := n.members[peer]
+	if m == nil {
+		return 0
+	}
+	return m.match
+}
+
 // has: it has the log up to index.
 func (m *member) has(index uint64) {
 	m.match, m.sent = max(m.match, index), max(m.sent, index)

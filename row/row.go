@@ -70,6 +70,22 @@ func taken[T any](b []byte, parts func(*Walk, *T)) ([]T, bool) {
 	return l, true
 }
 
+// Coded is a field in a form that others write and read.
+func Coded[T any](w *Walk, x *T, write func(T) []byte, read func([]byte) (T, api.Errno)) {
+	if !w.reading {
+		b := write(*x)
+		w.Text(&b)
+		return
+	}
+	var b []byte
+	w.Text(&b)
+	y, e := read(b)
+	*x, w.bad = y, w.bad || e != api.OK
+}
+
+// Refuse: what is read was never written so.
+func (w *Walk) Refuse() { w.bad = true }
+
 // Text is a field as it is.
 func (w *Walk) Text(b *[]byte) {
 	switch {

@@ -45,18 +45,8 @@ func imageParts(w *row.Walk, x *api.Image) {
 func cellParts(w *row.Walk, c *api.Cell) {
 	w.Text(&c.Key)
 	w.Yes(&c.Locked)
-	lockParts(w, &c.Lock)
+	w.Lock(&c.Lock)
 	row.List(w, &c.Writes, writeParts)
-}
-
-func lockParts(w *row.Walk, l *api.Lock) {
-	w.Count(&l.Kind)
-	w.Text(&l.Key)
-	w.Text(&l.Primary)
-	w.Text(&l.Value)
-	w.Numbers(&l.Start, &l.ForUpdate, &l.MinCommit)
-	w.Yes(&l.Async)
-	row.List(w, &l.Secondaries, (*row.Walk).Text)
 }
 
 func writeParts(w *row.Walk, x *api.Write) {
