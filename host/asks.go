@@ -90,7 +90,12 @@ func (h *Host) do(p *peer, c api.Cmd, answer func(api.Result)) {
 	if c.Kind == api.CmdPrewrite && (c.Async || c.One) {
 		c.Max = max(c.Max, p.office.mark)
 	}
-	h.propose(p, state.EncodeCmd(c), func(got outcome) {
+	data := state.EncodeCmd(c)
+	if len(data) > maxEntry {
+		answer(api.Result{Err: api.ErrArg})
+		return
+	}
+	h.propose(p, data, func(got outcome) {
 		r := got.result
 		switch {
 		case !got.known:

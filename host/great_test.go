@@ -6,6 +6,10 @@ import (
 	"testing"
 
 	"regatta/api"
+	"regatta/disk"
+	"regatta/engine"
+	"regatta/letter"
+	"regatta/vault"
 )
 
 // fill writes transactions with as many keys, and as great values, as there may be.
@@ -96,6 +100,99 @@ func TestGreatAndDying(t *testing.T) {
 	w.rounds(40)
 	w.settled()
 	w.agree()
+}
+
+// TestCut: P18.2: a snapshot and the entries behind it that are too much for one batch; each part of it is a right store.
+func TestCut(t *testing.T) {
+	t.Parallel()
+	data := bytes.Repeat([]byte("d"), room)
+	entry := func(index uint64, n int) api.Entry {
+		return api.Entry{Kind: api.EntryData, Term: 1, Index: index, Data: bytes.Repeat([]byte{byte(index)}, n)}
+	}
+	old := api.Ready{New: true, Hard: api.Hard{Term: 1, Commit: 1}, Snap: api.Snap{Index: 1, Term: 1, Conf: api.Conf{Voters: []uint64{7}}}}
+	for i := range uint64(20) {
+		old.Entries = append(old.Entries, entry(i+2, 1<<15))
+	}
+	snap := api.Snap{Index: 9, Term: 1, Conf: api.Conf{Voters: []uint64{7, 8}}, Data: data}
+	for _, x := range []struct {
+		what    string
+		r       api.Ready
+		entries []uint64 // those that are there behind it
+		between []uint64 // those that are there, if only a part is
+	}{
+		{"those that stay are told anew", api.Ready{Hard: api.Hard{Term: 2, Commit: 9}, Snap: snap, Emptied: true, Entries: old.Entries[8:]}, span(10, 21), span(10, 21)},
+		{"none stays", api.Ready{Hard: api.Hard{Term: 2, Commit: 9}, Snap: snap, Emptied: true}, nil, nil},
+		{"its own one, and new entries", api.Ready{Hard: api.Hard{Term: 2, Commit: 9}, Snap: snap, Entries: []api.Entry{entry(22, 1<<18), entry(23, 1<<18)}}, span(10, 23), span(10, 21)},
+	} {
+		for n := 0; ; n++ {
+			d := disk.New()
+			h, _ := Open(1, setupOf(1), d)
+			p, _ := newPeer(9, 7, api.Saved{})
+			h.keepLog(p, old)
+			if code := h.write(); code != api.OK {
+				t.Fatalf("%s: error %d ahead of it", x.what, code)
+			}
+			d.Arm(n)
+			h.keepLog(p, x.r)
+			code := h.write()
+			d.Crash(nil)
+			e, _ := engine.Open(d)
+			got, there, bad := vault.Load(e, 9)
+			text, want, part := indexes(got), fmt.Sprint(snap.Index, x.entries), fmt.Sprint(snap.Index, x.between)
+			if before := fmt.Sprint(1, span(2, 21)); !there || bad != api.OK || text != want && (code == api.OK || text != before && text != part) {
+				t.Fatalf("P18.2: %s: behind %d calls there are %s; want %s (errors %d, %d)", x.what, n, text, want, code, bad)
+			}
+			if code == api.OK {
+				break
+			}
+			if n > 100 {
+				t.Fatalf("P18.2: %s: it cannot be kept: error %d", x.what, code)
+			}
+		}
+	}
+}
+
+func span(from, to uint64) []uint64 {
+	var l []uint64
+	for i := from; i <= to; i++ {
+		l = append(l, i)
+	}
+	return l
+}
+
+func indexes(s api.Saved) string {
+	var l []uint64
+	for _, x := range s.Entries {
+		l = append(l, x.Index)
+	}
+	return fmt.Sprint(s.Snap.Index, l)
+}
+
+// TestTooGreat: what is asked for is more than an entry may have: no store is lost by it.
+func TestTooGreat(t *testing.T) {
+	w := calmWorld(t, 3)
+	long := make([]byte, 2*api.MaxRecord)
+	for _, x := range []api.Cmd{
+		{Kind: api.CmdPrewrite, Start: 5, Primary: long},
+		{Kind: api.CmdCheck, Start: 5, Primary: long[:maxEntry]},
+		{Kind: api.CmdPrewrite, Start: 5, Primary: long, Async: true},
+	} {
+		if r, ok := w.doCmd(2, x); !ok || r.Err != api.ErrArg {
+			t.Errorf("a command of the kind %d of so many bytes: %v, %v", x.Kind, r, ok)
+		}
+	}
+	for _, x := range []api.PdCmd{
+		{Kind: api.PdMerge, N: 5, Region: api.Region{Start: long}, Other: api.Region{ID: 2}},
+		{Kind: api.PdRegister, TS: 5, TTL: 5, Region: api.Region{End: long}},
+	} {
+		if got, ok := w.once(w.driver().store, letter.Part{Kind: letter.AskDriver, Pd: x}, 4); ok {
+			t.Errorf("a command of the kind %d of so many bytes: %+v", x.Kind, got.PdResult)
+		}
+	}
+	w.settled()
+	if r, ok := w.doCmd(2, onePhase(w.stamp(), "a", "1")); !ok || r.Err != api.OK {
+		t.Errorf("behind it: %+v, %v", r, ok)
+	}
 }
 
 // TestBatches: what is kept in several batches.

@@ -9,6 +9,7 @@ import (
 const (
 	maxBytes   = api.MaxRecord / 2
 	maxOps     = 1000
+	maxEntry   = maxBytes - 1<<12 // of what is proposed; whoever asks for more asks for what no command needs
 	manyWrites = 128
 	manyBytes  = 1 << 19
 	manyTables = 4

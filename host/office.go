@@ -136,6 +136,10 @@ func (h *Host) read(p *peer, then func(outcome)) {
 
 // propose: then is called when the entry is applied. It must not be left out whether it could be proposed.
 func (h *Host) propose(p *peer, data []byte, then func(outcome)) {
+	if len(data) > maxEntry {
+		then(outcome{})
+		return
+	}
 	index, code := p.Propose(data)
 	if code != api.OK {
 		then(outcome{})

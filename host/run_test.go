@@ -53,7 +53,7 @@ func (w *world) any(m mix) {
 			w.counts["doubled"]++
 		}
 	case is(m.cut):
-		w.cut = w.r.IntN(len(w.hosts)+1) * w.r.IntN(2)
+		w.anyCut()
 	case is(m.crash):
 		w.crash(i)
 	case is(m.start):
@@ -77,6 +77,22 @@ func (w *world) any(m mix) {
 	}
 	if len(w.way) > 256 {
 		w.way = w.way[len(w.way)-256:]
+	}
+}
+
+// anyCut: a store from all others, or two from one another; or none.
+func (w *world) anyCut() {
+	n := len(w.hosts)
+	switch w.r.IntN(4) {
+	case 0, 1:
+		w.cut = w.r.IntN(n+1) * w.r.IntN(2)
+	case 2:
+		w.pairs = map[[2]int]bool{}
+		fallthrough
+	default:
+		if a, b := 1+w.r.IntN(n), 1+w.r.IntN(n); a != b && w.pairs != nil {
+			w.pairs[pair(a, b)] = true
+		}
 	}
 }
 
@@ -210,6 +226,41 @@ func policyOf(seed uint64) api.Policy {
 	return api.Policy{}
 }
 
+// TestAnyOrder is P18.14, whatever the order of ticks and letters is.
+func TestAnyOrder(t *testing.T) {
+	t.Parallel()
+	for seed := range uint64(*runs) {
+		t.Run(fmt.Sprint(seed), func(t *testing.T) {
+			seed += *first
+			w := newWorld(t, seed, api.Setup{Stores: 1 + int(seed)%5, Clients: 2, Policy: policyOf(seed / 2)})
+			w.anyRounds(50)
+			if w.setup.Policy.Replicas == 0 { // else something is under way
+				w.settled()
+			}
+			for i := range min(founders, w.setup.Stores) {
+				if d, _ := w.hosts[i].Driver(); d.Clock() == 0 || len(d.Regions()) == 0 {
+					w.fail("P18.14: the store %d is at the clock %d with %d regions", i+1, d.Clock(), len(d.Regions()))
+				}
+			}
+			m := w.anyMix()
+			for range 1500 {
+				w.any(m)
+			}
+			w.calm()
+			w.anyRounds(120)
+			if w.setup.Policy.Replicas > 0 {
+				w.anyRounds(380)
+				w.replicated()
+			}
+			w.settled()
+			w.agree()
+			if w.setup.Policy.Replicas == 0 {
+				w.obeyed(w.anyRounds)
+			}
+		})
+	}
+}
+
 func (w *world) run(steps int) {
 	w.rounds(30)
 	m := w.anyMix()
@@ -239,7 +290,7 @@ func (w *world) run(steps int) {
 		}
 	}
 	if w.setup.Policy.Replicas == 0 {
-		w.obeyed()
+		w.obeyed(w.rounds)
 	}
 }
 
@@ -272,7 +323,7 @@ func (w *world) replicated() {
 }
 
 // obeyed: P18.14: what is ordered in a calm is done soon.
-func (w *world) obeyed() {
+func (w *world) obeyed(rounds func(int)) {
 	var alive []api.Region
 	for id, r := range w.eye.newest {
 		if !w.eye.swallowed[id] {
@@ -284,7 +335,7 @@ func (w *world) obeyed() {
 	key := string(r.Start) + "b"
 	if len(alive) < api.MaxRegions && region.Covers(r, []byte(key)) {
 		w.order(api.Order{Kind: api.OrderSplit, Region: r.ID}, key)
-		w.rounds(60)
+		rounds(60)
 		n := w.eye.newest[r.ID]
 		if string(n.End) != key {
 			w.fail("P18.14: behind an order to split at %s: %+v is %+v", key, r, n)
@@ -297,7 +348,7 @@ func (w *world) obeyed() {
 		return
 	}
 	w.order(api.Order{Kind: api.OrderLeader, Region: r.ID, Store: to.Store}, "")
-	w.rounds(20)
+	rounds(20)
 	if p := w.hosts[to.Store-1].peers[r.ID]; p.office == nil {
 		w.fail("P18.14: the peer %+v of %+v does not lead", to, r)
 	}

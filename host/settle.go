@@ -11,10 +11,10 @@ import (
 )
 
 const (
-	pieceSize = 1 << 13
+	pieceSize = 1 << 14
 	fewBehind = 64                    // more entries that all members have are given up
 	farBehind = 256                   // more of them are given up, whoever lacks them
-	room      = api.MaxRecord * 3 / 4 // bytes of a snapshot that fit in a batch with what is kept beside it
+	room      = api.MaxRecord * 3 / 4 // bytes of a snapshot that fit in a batch
 )
 
 // settle: what the peer tells is kept, sent, applied and answered, and what follows from that is begun.
@@ -77,13 +77,14 @@ func (h *Host) keepName(p *peer) {
 	}
 }
 
-// cut: where the entries are too many bytes for one batch, they are kept one part behind the other, as if they had come
-// so. Those that a snapshot leaves stand in one batch with it: else they would be lost between the two.
+// cut: where it is too many bytes for one batch, it is kept one part behind the other, as if it had come so. The entries
+// that a snapshot leaves are told anew, and are kept already: so it stands ahead of them, and only where it leaves none
+// all are forgotten.
 func cut(r api.Ready) []api.Ready {
-	if r.Snap.Index != 0 {
-		return []api.Ready{r}
-	}
 	var out []api.Ready
+	if r.Snap.Index != 0 {
+		out = append(out, api.Ready{Hard: r.Hard, Snap: r.Snap, Emptied: r.Emptied && len(r.Entries) == 0})
+	}
 	begin, size := 0, 0
 	for i, x := range r.Entries {
 		if size += len(x.Data); size > maxBytes && i > begin {
@@ -91,7 +92,10 @@ func cut(r api.Ready) []api.Ready {
 			begin, size = i, len(x.Data)
 		}
 	}
-	return append(out, api.Ready{Hard: r.Hard, Entries: r.Entries[begin:]})
+	if len(r.Entries) > 0 {
+		out = append(out, api.Ready{Hard: r.Hard, Entries: r.Entries[begin:]})
+	}
+	return out
 }
 
 // mail: a message goes to a peer of the group. Of a snapshot it goes with each piece.

@@ -11,7 +11,7 @@ import (
 // TestPieces: P18.10: what is too long for one letter goes in pieces, which may be lost, doubled and late.
 func TestPieces(t *testing.T) {
 	w := calmWorld(t, 4)
-	w.fill(4, "k") // some 80 kilobytes
+	w.fill(8, "k") // some 170 kilobytes
 	lead := w.leader(2)
 	for range 2 * fewBehind {
 		w.doCmd(2, api.Cmd{Kind: api.CmdFloor, Commit: 1})
@@ -81,7 +81,7 @@ func (w *world) snapParts(to uint64, term, index uint64) []letter.Part {
 // TestStaged: P18.10: a newer snapshot takes an elder one's place, and one whose sender's term is over is forgotten.
 func TestStaged(t *testing.T) {
 	w := calmWorld(t, 4)
-	w.fill(2, "k")
+	w.fill(3, "k")
 	h := w.hosts[3]
 	term := w.leader(2).peers[2].Status().Term
 	index := w.leader(2).peers[2].applied

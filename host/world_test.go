@@ -29,7 +29,8 @@ type world struct {
 	scratch  bool                                   // what is handed in is overwritten behind the call
 	parts    bool                                   // a call may keep so much that a part of it is there behind a crash
 	way      []packet
-	cut      int // a store that is cut off from all others; 0: none
+	cut      int             // a store that is cut off from all others; 0: none
+	pairs    map[[2]int]bool // stores that are cut off from one another, the lesser number first
 	clients  []*client
 	eye      eye
 	given    map[uint64]bool   // timestamps
@@ -170,7 +171,7 @@ func (w *world) tick(i int) {
 }
 
 func (w *world) deliver(p packet) {
-	if w.cut != 0 && p.from != p.To && (p.from == w.cut || p.To == w.cut) {
+	if w.cut != 0 && p.from != p.To && (p.from == w.cut || p.To == w.cut) || w.pairs[pair(p.from, p.To)] {
 		return
 	}
 	if p.To > w.setup.Stores {
@@ -190,6 +191,8 @@ func (w *world) deliver(p packet) {
 		w.done(p.To-1, l, e)
 	}
 }
+
+func pair(a, b int) [2]int { return [2]int{min(a, b), max(a, b)} }
 
 func (w *world) take(at int) packet {
 	p := w.way[at]
@@ -239,9 +242,32 @@ func (w *world) rounds(n int) {
 	}
 }
 
+// anyRounds: in any order.
+func (w *world) anyRounds(n int) {
+	for range n {
+		for _, i := range w.r.Perm(len(w.hosts)) {
+			w.tick(i)
+			for range w.r.IntN(4) {
+				if len(w.way) > 0 {
+					w.deliver(w.take(w.r.IntN(len(w.way))))
+				}
+			}
+		}
+		for _, c := range w.clients {
+			c.tick()
+		}
+		for k := 0; len(w.way) > 0; k++ {
+			if k > 20000 {
+				w.fail("letters without an end: %s", w.wayText())
+			}
+			w.deliver(w.take([]int{0, len(w.way) - 1, w.r.IntN(len(w.way))}[w.r.IntN(3)]))
+		}
+	}
+}
+
 // calm: all are up, and nothing is lost from now on.
 func (w *world) calm() {
-	w.cut = 0
+	w.cut, w.pairs = 0, nil
 	for i := range w.hosts {
 		if w.hosts[i] == nil {
 			w.disks[i].Crash(nil)
