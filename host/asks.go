@@ -18,7 +18,7 @@ type regionPart struct {
 	asking   uint64          // the ask for that; 0: none
 	later    []func(outcome) // what waits for the mark
 	reported report
-	task     *task
+	tasks    []*task // orders, in the order in which they came
 	wish     wish
 	union    union
 }
@@ -98,6 +98,8 @@ func (h *Host) do(p *peer, c api.Cmd, answer func(api.Result)) {
 	h.propose(p, data, func(got outcome) {
 		r := got.result
 		switch {
+		case got.refused:
+			r.Err = api.ErrLeader // it is handing over
 		case !got.known:
 			r.Err = api.ErrUnknown
 		case r.Err == api.OK && c.Kind >= api.CmdFloor:

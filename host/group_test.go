@@ -184,7 +184,7 @@ func TestLeftLeader(t *testing.T) {
 	w.rounds(40)
 	w.order(api.Order{Kind: api.OrderRemove, Region: 2, Store: out}, "")
 	w.rounds(30)
-	for store := 1; store <= 5; store++ {
+	for _, store := range []int{4, 5, 1, 2, 3} {
 		kind := api.OrderRemove
 		if store > 3 {
 			kind = api.OrderAdd
@@ -193,6 +193,9 @@ func TestLeftLeader(t *testing.T) {
 			w.order(api.Order{Kind: kind, Region: 2, Store: store}, "")
 			w.rounds(30)
 		}
+	}
+	if l := w.eye.newest[2].Peers; len(l) != 2 || l[0].Store < 4 || l[1].Store < 4 {
+		t.Fatalf("one that knew the old leader is there still: %+v", l)
 	}
 	if w.hosts[out-1].leading(2) == nil {
 		t.Fatal("who is cut off does not lead any more")

@@ -49,6 +49,11 @@ func (h *Host) grant(p *peer) {
 	if !p.free() {
 		return
 	}
+	if !w.held && weightOf(p.state.Image().Cells) > maxSource {
+		h.giveBack(w.merge)
+		*w = wish{}
+		return
+	}
 	w.posed = true
 	c := api.Cmd{Kind: api.CmdPrepare, Epoch: w.epoch, ID: w.merge, Force: w.held}
 	h.propose(p, state.EncodeCmd(c), func(got outcome) {
@@ -184,14 +189,11 @@ func (h *Host) onPull(from int, x letter.Part) {
 	if p == nil || x.N == 0 {
 		return
 	}
-	switch {
-	case p.state.Frozen() == x.N:
+	if p.state.Frozen() == x.N {
 		h.tellSource(p, from)
-	case weightOf(p.state.Image().Cells) > maxSource:
-		h.giveBack(x.N)
-	default:
-		h.wishFrom(p, wish{merge: x.N, epoch: x.Region.Epoch, asker: from})
+		return
 	}
+	h.wishFrom(p, wish{merge: x.N, epoch: x.Region.Epoch, asker: from})
 }
 
 // tellSource tells what lies in a source that is frozen, and stays as it is as long as it is.

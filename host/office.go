@@ -30,9 +30,10 @@ type office struct {
 
 // outcome is what has become of what waited; it is not known where the peer leads no more, or another entry came.
 type outcome struct {
-	known  bool
-	result api.Result
-	pd     api.PdResult
+	known   bool
+	refused bool // it was never proposed
+	result  api.Result
+	pd      api.PdResult
 }
 
 func newOffice(term, last, tick uint64) *office {
@@ -134,15 +135,16 @@ func (h *Host) read(p *peer, then func(outcome)) {
 	h.soil(p)
 }
 
-// propose: then is called when the entry is applied. It must not be left out whether it could be proposed.
+// propose: then is called when the entry is applied, or when it is sure that nothing is known of it; in any case, as
+// whoever waits for it waits for ever else.
 func (h *Host) propose(p *peer, data []byte, then func(outcome)) {
 	if len(data) > maxEntry {
-		then(outcome{})
+		then(outcome{refused: true})
 		return
 	}
 	index, code := p.Propose(data)
 	if code != api.OK {
-		then(outcome{})
+		then(outcome{refused: true})
 		return
 	}
 	p.office.wait(index, p.office.term, then)

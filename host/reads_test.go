@@ -124,6 +124,12 @@ func TestReads(t *testing.T) { // P18.8
 	if x, _ = w.once(w.leader(2).store, ask, 2); len(x.Locks) != 1 || x.Locks[0].Start != s {
 		t.Errorf("P18.8: Locks: %+v", x)
 	}
+	// Who asks for locks reads nothing.
+	ask.TS = 1 << 50
+	w.once(w.leader(2).store, ask, 2)
+	if r, _ := w.doCmd(2, onePhase(w.stamp(), "f", "1")); r.Err != api.OK || r.Commit >= 1<<50 {
+		t.Errorf("P18.8: the read mark is moved by an ask for locks: %+v", r)
+	}
 	ask.Epoch.Version = 7
 	for _, kind := range []int{letter.AskGet, letter.AskScan, letter.AskLocks} {
 		ask.Kind = kind
@@ -188,6 +194,29 @@ func TestReadOfAnOldLeader(t *testing.T) {
 	if len(got) != 2 || got[1000] != api.ErrLeader || got[1001] != api.ErrUnknown {
 		t.Errorf("P18.5: when the leader has gone: %+v", got)
 	}
+	w.settled()
+}
+
+// TestHandingOver: P18.5: what is not proposed is not answered as unknown.
+func TestHandingOver(t *testing.T) {
+	w := calmWorld(t, 3)
+	lead := w.leader(2)
+	w.cut = lead.store%3 + 1
+	s := w.stamp()
+	w.doCmd(2, put(s, "a", "1")) // so that the heir lacks something
+	last := lead.peers[2].Status().Last
+	w.order(api.Order{Kind: api.OrderLeader, Region: 2, Store: w.cut}, "")
+	c := put(s+1, "c", "1")
+	c.Epoch = w.epoch(2)
+	got := w.tell(4, lead.store, letter.Part{Kind: letter.AskCmd, Tag: letter.Tag{Seq: 7}, Group: 2, Cmd: c})[letter.Answer]
+	if len(got) != 1 || got[0].Tag.Seq != 7 || got[0].Result.Err != api.ErrLeader {
+		t.Errorf("P18.5: of who hands over: %+v", got)
+	}
+	if s := lead.peers[2].Status(); s.Last != last {
+		t.Errorf("P18.5: it is proposed: %+v", s)
+	}
+	w.cut = 0
+	w.rounds(40)
 	w.settled()
 }
 
@@ -296,6 +325,26 @@ func TestNoMarkYet(t *testing.T) {
 			w.settled()
 		})
 	}
+}
+
+// TestNeverMarked: P18.8: where a leader goes ahead of having a timestamp, what waited for one was not proposed.
+func TestNeverMarked(t *testing.T) {
+	w := calmWorld(t, 3)
+	lead := w.driver().store%3 + 1
+	w.pass = func(from, _ int, x letter.Part) bool { return from != lead || x.Kind != letter.AskTime }
+	w.order(api.Order{Kind: api.OrderLeader, Region: 2, Store: lead}, "")
+	w.rounds(20)
+	c := onePhase(w.stamp(), "a", "1")
+	c.Epoch = w.epoch(2)
+	var got []letter.Part
+	w.clients[0].ask(lead, letter.Part{Kind: letter.AskCmd, Group: 2, Cmd: c}, func(x letter.Part) { got = append(got, x) })
+	w.rounds(4)
+	w.order(api.Order{Kind: api.OrderLeader, Region: 2, Store: w.driver().store}, "")
+	w.rounds(20)
+	if len(got) != 1 || got[0].Result.Err != api.ErrLeader {
+		t.Errorf("P18.8: %+v", got)
+	}
+	w.settled()
 }
 
 // TestStaleMark: P18.8: a timestamp that was asked for by an elder office is none for this one.

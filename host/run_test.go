@@ -7,6 +7,7 @@ import (
 	"testing"
 
 	"regatta/api"
+	"regatta/pd"
 	"regatta/region"
 )
 
@@ -126,10 +127,25 @@ func (w *world) anyKey() string {
 	return string(rune('a'+w.r.IntN(8))) + []string{"", "a", "b"}[w.r.IntN(3)]
 }
 
-// settled: P18.14, and W1 of all that clients were told.
+// settled: P18.14.
 func (w *world) settled() {
-	for i := range w.hosts {
-		for _, v := range w.hosts[i].Peers() {
+	w.settledPeers()
+	w.settledLeaders()
+	for i, h := range w.hosts {
+		d, ok := h.Driver()
+		if ok != (i < founders) {
+			w.fail("P18.3: Driver of the store %d", i+1)
+		}
+		if ok {
+			w.settledDriver(d)
+		}
+	}
+}
+
+// settledPeers: each peer is one of its region as that is now, and free of merges.
+func (w *world) settledPeers() {
+	for i, h := range w.hosts {
+		for _, v := range h.Peers() {
 			if w.eye.swallowed[v.Region.ID] {
 				w.fail("P18.7: the store %d has a peer of the region %d, which is swallowed: %+v", i+1, v.Region.ID, v)
 			}
@@ -143,11 +159,15 @@ func (w *world) settled() {
 			if !same(n, v.Region) {
 				w.fail("the store %d: %+v is %+v", i+1, v.Region, n)
 			}
-			if s, _ := w.hosts[i].State(v.Region.ID); s.Held() != 0 {
+			if s, _ := h.State(v.Region.ID); s.Held() != 0 {
 				w.fail("P18.7: held by %d: %+v", s.Held(), v)
 			}
 		}
 	}
+}
+
+// settledLeaders: each region has all its peers, and just one leader.
+func (w *world) settledLeaders() {
 	leaders := map[uint64]int{}
 	peers := map[uint64]int{}
 	for _, h := range w.hosts {
@@ -169,29 +189,24 @@ func (w *world) settled() {
 			w.fail("P18.4: %d peers of the region %+v", peers[id], r)
 		}
 	}
-	for i, h := range w.hosts {
-		d, ok := h.Driver()
-		if ok != (i < founders) {
-			w.fail("P18.3: Driver of the store %d", i+1)
+}
+
+// settledDriver: it knows all that there is.
+func (w *world) settledDriver(d *pd.Driver) {
+	if got := d.Stores(d.Clock() + 1); len(got) != w.setup.Stores {
+		w.fail("P18.14: the stores %v are known", got)
+	}
+	if len(d.Open()) > 0 {
+		w.fail("P18.7: merges are open")
+	}
+	l := d.Regions()
+	for _, r := range l {
+		if !same(r, w.eye.newest[r.ID]) {
+			w.fail("P18.14: known is %+v; it is %+v", r, w.eye.newest[r.ID])
 		}
-		if !ok {
-			continue
-		}
-		if got := d.Stores(d.Clock() + 1); len(got) != w.setup.Stores {
-			w.fail("P18.14: the stores %v are known", got)
-		}
-		if len(d.Open()) > 0 {
-			w.fail("P18.7: merges are open")
-		}
-		l := d.Regions()
-		for _, r := range l {
-			if !same(r, w.eye.newest[r.ID]) {
-				w.fail("P18.14: known is %+v; it is %+v", r, w.eye.newest[r.ID])
-			}
-		}
-		if !region.Partition(l) {
-			w.fail("P18.14: known are %+v", l)
-		}
+	}
+	if !region.Partition(l) {
+		w.fail("P18.14: known are %+v", l)
 	}
 }
 

@@ -124,19 +124,7 @@ func TestStaged(t *testing.T) {
 	}
 	third := w.snapParts(70, term+3, index+7)
 	give(third[2:])
-	// Pieces of other bytes, of no snapshot, of another region's state.
-	for _, turn := range []func(x *letter.Part){
-		func(x *letter.Part) { x.Sum++ }, func(x *letter.Part) { x.Length++ }, func(x *letter.Part) { x.Length = 1 << 40 }, func(x *letter.Part) { x.Sum = 1 << 40 },
-		func(x *letter.Part) { x.Data = nil }, func(x *letter.Part) { x.Data = first[0].Data }, func(x *letter.Part) { x.Message.Kind = api.MsgAppend },
-		func(x *letter.Part) { x.Message.Snap.Index = 1 << 62 }, func(x *letter.Part) { x.Message.Snap.Index = 1<<64 - 1 },
-	} {
-		x := third[0]
-		turn(&x)
-		w.tell(1, 4, x)
-		if h.peers[2].state != nil {
-			t.Fatalf("P18.10: taken in: %+v", x)
-		}
-	}
+	w.tellTurned(third[0], first[0].Data)
 	give(third[:2])
 	if p := h.peers[2]; p.state == nil || p.applied != index+7 || staged() != 0 {
 		t.Errorf("P18.10: the whole is not taken in")
@@ -150,6 +138,22 @@ func TestStaged(t *testing.T) {
 	}
 	w.crash(3)
 	w.open(3)
+}
+
+// tellTurned: pieces of other bytes, and of what is no snapshot, do nothing.
+func (w *world) tellTurned(good letter.Part, other []byte) {
+	for _, turn := range []func(x *letter.Part){
+		func(x *letter.Part) { x.Sum++ }, func(x *letter.Part) { x.Length++ }, func(x *letter.Part) { x.Length = 1 << 40 }, func(x *letter.Part) { x.Sum = 1 << 40 },
+		func(x *letter.Part) { x.Data = nil }, func(x *letter.Part) { x.Data = other }, func(x *letter.Part) { x.Message.Kind = api.MsgAppend },
+		func(x *letter.Part) { x.Message.Snap.Index = 1 << 62 }, func(x *letter.Part) { x.Message.Snap.Index = 1<<64 - 1 },
+	} {
+		x := good
+		turn(&x)
+		w.tell(1, 4, x)
+		if w.hosts[3].peers[2].state != nil {
+			w.fail("P18.10: taken in: %+v", x)
+		}
+	}
 }
 
 // TestWrongSnapshots: what the peer could not have is not taken in.
@@ -175,6 +179,11 @@ func TestWrongSnapshots(t *testing.T) {
 		if l := w.hosts[3].Peers(); len(l) > 0 {
 			t.Fatalf("P18.10: %s: %+v", what, l)
 		}
+		for group, p := range w.hosts[3].peers {
+			if s := p.Status(); s.First != 1 || s.Commit != 0 {
+				t.Errorf("P18.10: %s: the group %d has a snapshot: %+v", what, group, s)
+			}
+		}
 	}
 	good.Message.To = 80
 	w.tell(1, 4, good)
@@ -194,9 +203,9 @@ func TestCompaction(t *testing.T) {
 			if !all {
 				w.cut = lead.store%3 + 1
 			}
-			limit := uint64(farBehind)
+			limit := uint64(256)
 			if all {
-				limit = fewBehind
+				limit = 64
 			}
 			for p.applied < limit+1 {
 				if s := p.Status(); s.First != 2 {

@@ -85,7 +85,7 @@ func TestSplitsThatAreNone(t *testing.T) { // P18.2: nothing comes of them
 		}
 	}
 	w.settled()
-	// What is asked of a region that is busy is not done.
+	// The key of the second one is not the region's any more when its turn comes.
 	w.split(l[0].ID, "c")
 	w.split(l[0].ID, "d")
 	w.rounds(20)
@@ -93,6 +93,47 @@ func TestSplitsThatAreNone(t *testing.T) { // P18.2: nothing comes of them
 		t.Errorf("two splits at one time: %+v", got)
 	}
 	w.settled()
+}
+
+// TestOrdersAtOneTime: P18.14: what is ordered while something else is being done is done behind that.
+func TestOrdersAtOneTime(t *testing.T) {
+	for seed := range uint64(20) {
+		w := newWorld(t, seed, setupOf(5))
+		w.rounds(40)
+		out := w.leader(2).store%3 + 1 // not the leader's: with its office the orders that wait would be over
+		orders := []api.Order{
+			{Kind: api.OrderAdd, Region: 2, Store: 4}, {Kind: api.OrderAdd, Region: 2, Store: 5},
+			{Kind: api.OrderRemove, Region: 2, Store: out}, {Kind: api.OrderSplit, Region: 2},
+		}
+		for _, i := range w.r.Perm(len(orders)) {
+			w.order(orders[i], "m")
+		}
+		w.rounds(60)
+		l := w.alive()
+		if len(l) != 2 || string(l[1].Start) != "m" || len(l[0].Peers) != 4 {
+			t.Fatalf("P18.14: %+v", l)
+		}
+		if p, there := region.On(l[0], out); there {
+			t.Errorf("P18.14: the peer %+v stays", p)
+		}
+		w.settled()
+		// There is no end of what may be ordered, but one of what waits; and behind some time nothing waits any more.
+		w.cut = w.leader(2).store
+		for k := range 4 * maxOrders {
+			w.order(api.Order{Kind: api.OrderSplit, Region: 2}, fmt.Sprintf("c%03d", k))
+		}
+		p := w.hosts[w.cut-1].peers[2]
+		if n := len(p.office.tasks); n != maxOrders {
+			t.Errorf("%d orders wait", n)
+		}
+		for range giveUp {
+			w.tick(w.cut - 1)
+			w.way = nil
+		}
+		if n := len(p.office.tasks); n != 0 {
+			t.Errorf("P18.11: %d orders wait", n)
+		}
+	}
 }
 
 func TestAsManyRegionsAsMayBe(t *testing.T) {
@@ -129,43 +170,10 @@ func TestSplitLate(t *testing.T) {
 	for _, what := range []string{"blank", "by a snapshot", "gone", "never"} {
 		t.Run(what, func(t *testing.T) {
 			w := calmWorld(t, 5)
-			late := w.leader(2).store%3 + 1 // the old region's entries don't come there
-			w.pass = func(from, to int, x letter.Part) bool {
-				if to != late {
-					return true
-				}
-				isNew := x.Group > 2
-				switch what {
-				case "blank":
-					// It is asked for its vote, and gets no snapshot.
-					return x.Group != 2 && !(isNew && (x.Kind == letter.Piece || x.Message.Kind == api.MsgAppend))
-				case "never":
-					return x.Group != 2 && !isNew
-				}
-				return x.Group != 2
-			}
-			w.split(2, "m")
-			w.rounds(10)
-			id := w.alive()[1].ID
-			mine, _ := region.On(w.alive()[1], late)
+			late := w.leader(2).store%3 + 1
+			id, mine := w.splitWithout(late, what)
 			h := w.hosts[late-1]
 			p := h.peers[id]
-			switch what {
-			case "blank":
-				if p == nil || p.state != nil || p.Status().Term < 2 {
-					t.Fatalf("no blank peer: %+v", p)
-				}
-			case "by a snapshot":
-				if p == nil || p.state == nil || p.applied < 2 {
-					t.Fatalf("no peer: %+v", p)
-				}
-			case "gone", "never":
-				w.order(api.Order{Kind: api.OrderRemove, Region: id, Store: late}, "")
-				w.rounds(40)
-				if h.peers[id] != nil || h.buried(id) != map[string]uint64{"gone": mine.ID, "never": 0}[what] {
-					t.Fatalf("it is here: %+v, %d is buried", h.peers[id], h.buried(id))
-				}
-			}
 			var term, vote, applied uint64
 			if p != nil {
 				term, vote, applied = p.Status().Term, p.Status().Vote, p.applied
@@ -188,7 +196,7 @@ func TestSplitLate(t *testing.T) {
 					t.Errorf("P18.6: one that went is here: %+v", q.Status())
 				}
 			case "never":
-				if q == nil || q.id != mine.ID || q.applied != 1 {
+				if q == nil || q.id != mine || q.applied != 1 {
 					t.Errorf("P18.6: it does not come: %+v", q)
 				}
 			}
@@ -197,6 +205,48 @@ func TestSplitLate(t *testing.T) {
 			w.settled()
 		})
 	}
+}
+
+// splitWithout: the region 2 is split, and its entries do not come to the store; what comes of the new region is said by
+// what. The new region's number, and the number of its peer on that store.
+func (w *world) splitWithout(late int, what string) (uint64, uint64) {
+	w.pass = func(from, to int, x letter.Part) bool {
+		if to != late {
+			return true
+		}
+		isNew := x.Group > 2
+		switch what {
+		case "blank":
+			// It is asked for its vote, and gets no snapshot.
+			return x.Group != 2 && !(isNew && (x.Kind == letter.Piece || x.Message.Kind == api.MsgAppend))
+		case "never":
+			return x.Group != 2 && !isNew
+		}
+		return x.Group != 2
+	}
+	w.split(2, "m")
+	w.rounds(10)
+	id := w.alive()[1].ID
+	mine, _ := region.On(w.alive()[1], late)
+	h := w.hosts[late-1]
+	p := h.peers[id]
+	switch what {
+	case "blank":
+		if p == nil || p.state != nil || p.Status().Term < 2 {
+			w.fail("no blank peer: %+v", p)
+		}
+	case "by a snapshot":
+		if p == nil || p.state == nil || p.applied < 2 {
+			w.fail("no peer: %+v", p)
+		}
+	case "gone", "never":
+		w.order(api.Order{Kind: api.OrderRemove, Region: id, Store: late}, "")
+		w.rounds(40)
+		if h.peers[id] != nil || h.buried(id) != map[string]uint64{"gone": mine.ID, "never": 0}[what] {
+			w.fail("it is here: %+v, %d is buried", h.peers[id], h.buried(id))
+		}
+	}
+	return id, mine.ID
 }
 
 func TestOrdersForOthers(t *testing.T) { // P18.2: a host whose peer does not lead does nothing

@@ -11,7 +11,8 @@ import (
 )
 
 const (
-	giveUp = 64 // ticks behind which an order that is not done is given up
+	giveUp    = 64 // ticks behind which an order that is not done is given up
+	maxOrders = 16 // that wait at one leader
 	// cellBytes is more than what a cell, a lock and a write take beside their keys and values.
 	cellBytes = 64
 )
@@ -20,7 +21,6 @@ const (
 type task struct {
 	order  api.Order
 	key    []byte
-	region api.Region // as it was when the order came
 	begun  uint64
 	ask    uint64 // of the placement driver; 0: none yet
 	number uint64 // the first one that was given for what is new
@@ -28,20 +28,21 @@ type task struct {
 	over   bool
 }
 
-// begin: the leader does the order, if it does none.
+// begin: the leader does the order, when it has done those that came ahead of it.
 func (h *Host) begin(p *peer, o api.Order, key []byte) {
 	steps := tasks()
-	if p.office.task != nil || o.Kind < api.OrderAdd || o.Kind >= len(steps) {
+	if len(p.office.tasks) >= maxOrders || o.Kind < api.OrderAdd || o.Kind >= len(steps) {
 		return
 	}
-	p.office.task = &task{order: o, key: key, region: p.state.Region(), begun: h.ticks}
+	p.office.tasks = append(p.office.tasks, &task{order: o, key: key, begun: h.ticks})
 	h.soil(p)
 }
 
-// onOrder: the placement driver wants something done, as it knows the region. Where it is to be split is left open.
+// onOrder: the placement driver wants something done, as it knows the region: not behind something else. Where it is to
+// be split is left open.
 func (h *Host) onOrder(_ int, x letter.Part) {
 	p := h.leading(x.Order.Region)
-	if p == nil || p.state.Region().Epoch != x.Epoch {
+	if p == nil || p.state.Region().Epoch != x.Epoch || len(p.office.tasks) > 0 {
 		return
 	}
 	var key []byte
@@ -63,20 +64,21 @@ func tasks() [api.OrderMerge + 1]func(*Host, *peer, *task) {
 	}
 }
 
-// proceed goes on with the order, as far as that can be now.
+// proceed goes on with the orders, one behind the other, as far as that can be now.
 func (h *Host) proceed(p *peer) {
-	t := p.office.task
-	if t == nil {
-		return
-	}
-	if h.ticks-t.begun < giveUp && !t.over {
-		tasks()[t.order.Kind](h, p, t)
-	} else {
-		t.over = true
-	}
-	if t.over {
-		p.office.task = nil
-		delete(p.office.asks, t.ask)
+	o := p.office
+	for len(o.tasks) > 0 {
+		t := o.tasks[0]
+		if h.ticks-t.begun < giveUp && !t.over {
+			tasks()[t.order.Kind](h, p, t)
+		} else {
+			t.over = true
+		}
+		if !t.over {
+			return
+		}
+		o.tasks = o.tasks[1:]
+		delete(o.asks, t.ask)
 	}
 }
 
@@ -104,11 +106,11 @@ func (h *Host) pose(p *peer, t *task, c api.Cmd, then func(api.Result)) {
 
 func (h *Host) splitRegion(p *peer, t *task) {
 	r := p.state.Region()
-	if r.Epoch != t.region.Epoch || !region.Covers(r, t.key) || bytes.Equal(t.key, r.Start) {
+	if !region.Covers(r, t.key) || bytes.Equal(t.key, r.Start) {
 		t.over = true
 		return
 	}
-	if !h.numbered(p, t, 1+len(r.Peers), r) || t.posed || !p.open() {
+	if !h.numbered(p, t, 1+api.MaxPeers, r) || t.posed || !p.open() {
 		return
 	}
 	if t.over = weightOf(behind(p.state.Image(), t.key)) > room; t.over {
@@ -206,7 +208,7 @@ func (h *Host) openMerge(p *peer, t *task) {
 
 // promote: where no policy says how many vote, a learner does as soon as it has what the others have.
 func (h *Host) promote(p *peer) {
-	if h.setup.Policy.Replicas > 0 || p.office.task != nil || !p.open() {
+	if h.setup.Policy.Replicas > 0 || len(p.office.tasks) > 0 || !p.open() {
 		return
 	}
 	for _, x := range p.state.Region().Peers {

@@ -175,6 +175,20 @@ func TestWhereAKeyIs(t *testing.T) {
 			t.Errorf("%+v; want %+v", x, r)
 		}
 	}
+	// What was told long ago comes late.
+	r := w.eye.newest[2]
+	d, lead := w.driver(), w.leader(2)
+	x := letter.Part{Kind: letter.Region, Region: r, Term: lead.peers[2].Status().Term, Size: 7}
+	old := []letter.Part{x, x}
+	old[0].Term--
+	old[1].Region.Epoch.Version--
+	old[1].Term++
+	for _, x := range old {
+		w.tell(lead.store%3+1, d.store, x)
+		if got := d.peers[driverGroup].office.sights[2]; got.store != lead.store || got.size == 7 || got.epoch != r.Epoch {
+			t.Errorf("P18.11: behind %+v it is known as %+v", x, got)
+		}
+	}
 	// As long as it is not known.
 	w = newWorld(t, 1, setupOf(3))
 	w.pass = func(from, _ int, x letter.Part) bool {

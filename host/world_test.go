@@ -122,8 +122,11 @@ func (w *world) done(i int, l []api.Letter, e api.Errno) {
 		if len(l) > 0 {
 			w.fail("P18.2: %d letters beside an error", len(l))
 		}
-		if _, e := w.hosts[i].Tick(); e != api.ErrDead {
-			w.fail("P18.2: a host that is over: error %d", e)
+		_, tick := w.hosts[i].Tick()
+		_, receive := w.hosts[i].Receive(1, nil)
+		_, order := w.hosts[i].Order(api.Order{}, nil)
+		if tick != api.ErrDead || receive != api.ErrDead || order != api.ErrDead {
+			w.fail("P18.2: a host that is over: errors %d, %d, %d", tick, receive, order)
 		}
 		w.had[i] = []string{w.before, textHost(w.hosts[i])}
 		w.hosts[i] = nil
