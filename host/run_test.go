@@ -1,6 +1,7 @@
 package host
 
 import (
+	"bytes"
 	"flag"
 	"fmt"
 	"slices"
@@ -19,15 +20,15 @@ var (
 
 // mix is how often which things happen in a run.
 type mix struct {
-	tick, client, lose, double, cut, crash, start, arm, order, burst int // of 1000; else a letter is delivered
-	reach                                                                // from among how many
+	tick, client, lose, double, late, cut, crash, start, arm, order, burst int // of 1000; else a letter is delivered
+	reach                                                                      // from among how many
 }
 
 type reach int
 
 func (w *world) anyMix() mix {
 	of := func(l ...int) int { return l[w.r.IntN(len(l))] }
-	return mix{tick: of(30, 80, 150), client: of(5, 30, 80, 300), lose: of(0, 2, 10, 40), double: of(0, 2, 20), cut: of(0, 1, 5), crash: of(0, 1, 6),
+	return mix{tick: of(30, 80, 150), client: of(5, 30, 80, 300), lose: of(0, 2, 10, 40), double: of(0, 2, 20), late: of(0, 5, 40), cut: of(0, 1, 5), crash: of(0, 1, 6),
 		start: of(5, 30), arm: of(0, 0, 1, 3), order: of(1, 4, 15, 40), burst: of(0, 5, 20), reach: reach(of(1, 4, 12, 1000))}
 }
 
@@ -52,6 +53,11 @@ func (w *world) any(m mix) {
 		if len(w.way) > 0 {
 			w.way = append(w.way, w.way[w.r.IntN(len(w.way))])
 			w.counts["doubled"]++
+		}
+	case is(m.late):
+		if len(w.archive) > 0 {
+			w.way = append(w.way, w.archive[w.r.IntN(len(w.archive))])
+			w.counts["late"]++
 		}
 	case is(m.cut):
 		w.anyCut()
@@ -79,6 +85,19 @@ func (w *world) any(m mix) {
 	if len(w.way) > 256 {
 		w.way = w.way[len(w.way)-256:]
 	}
+	if n := len(w.way); n > 0 && w.r.IntN(8) == 0 {
+		w.keepOne(w.way[w.r.IntN(n)])
+	}
+}
+
+// keepOne: some letters come once more when they are very old.
+func (w *world) keepOne(p packet) {
+	p.Data = bytes.Clone(p.Data)
+	if len(w.archive) < 100 {
+		w.archive = append(w.archive, p)
+		return
+	}
+	w.archive[w.r.IntN(len(w.archive))] = p
 }
 
 // anyCut: a store from all others, or two from one another; or none.
@@ -138,6 +157,33 @@ func (w *world) settled() {
 		}
 		if ok {
 			w.settledDriver(d)
+		}
+	}
+}
+
+// led: P18.14, of what a policy goes on to change, too: each region has just one leader, and is known, as are all stores;
+// and the clock goes on.
+func (w *world) led() {
+	leaders := map[uint64]int{}
+	for _, h := range w.hosts {
+		for _, v := range h.Peers() {
+			leaders[v.Region.ID] += 0
+			if v.Role == api.RoleLeader {
+				leaders[v.Region.ID]++
+			}
+		}
+	}
+	for _, h := range w.hosts[:min(founders, len(w.hosts))] {
+		d, _ := h.Driver()
+		for id, n := range leaders {
+			if _, known := regionOf(d, id); !known || n != 1 {
+				w.fail("P18.14: %d peers lead the region %d; known are %+v", n, id, d.Regions())
+			}
+		}
+		was := w.clocks[h.store-1]
+		w.clocks[h.store-1] = d.Clock()
+		if len(d.Stores(d.Clock()+1)) != len(w.hosts) || d.Clock() <= was {
+			w.fail("P18.14: the store %d is at the clock %d, and was at %d; known are the stores %v", h.store, d.Clock(), was, d.Stores(d.Clock()+1))
 		}
 	}
 }
@@ -224,7 +270,7 @@ func TestAnyRun(t *testing.T) {
 		})
 	}
 	t.Log(total)
-	for _, k := range []string{"reads", "commits", "locked", "lost", "doubled", "crashes", "died", "compacted", "regions", "swallowed", "conf"} {
+	for _, k := range []string{"reads", "commits", "locked", "lost", "doubled", "late", "crashes", "died", "compacted", "regions", "swallowed", "conf"} {
 		if total[k] == 0 {
 			t.Errorf("in no run there were %s", k)
 		}
@@ -252,17 +298,14 @@ func TestAnyOrder(t *testing.T) {
 			if w.setup.Policy.Replicas == 0 { // else something is under way
 				w.settled()
 			}
-			for i := range min(founders, w.setup.Stores) {
-				if d, _ := w.hosts[i].Driver(); d.Clock() == 0 || len(d.Regions()) == 0 {
-					w.fail("P18.14: the store %d is at the clock %d with %d regions", i+1, d.Clock(), len(d.Regions()))
-				}
-			}
+			w.led()
 			m := w.anyMix()
 			for range 1500 {
 				w.any(m)
 			}
 			w.calm()
 			w.anyRounds(120)
+			w.led()
 			if w.setup.Policy.Replicas > 0 {
 				w.anyRounds(380)
 				w.replicated()

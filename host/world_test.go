@@ -29,10 +29,12 @@ type world struct {
 	scratch  bool                                   // what is handed in is overwritten behind the call
 	parts    bool                                   // a call may keep so much that a part of it is there behind a crash
 	way      []packet
+	archive  []packet        // letters that may come once more
 	cut      int             // a store that is cut off from all others; 0: none
 	pairs    map[[2]int]bool // stores that are cut off from one another, the lesser number first
 	clients  []*client
 	eye      eye
+	clocks   [founders]uint64  // the placement driver's, as it was when it was looked at
 	given    map[uint64]bool   // timestamps
 	commits  map[uint64]uint64 // by start: what was answered as committed
 	answered uint64            // the greatest of these
